@@ -36,7 +36,7 @@ func ignored(rows []row, w uint32) uint32 {
 	return 0
 }
 
-// Words whose meaning was looked up in the manuals, not in the table of these tests.
+// Words written out by hand with their text in assembly, not made from the table of these tests.
 func TestKnownWords(t *testing.T) {
 	rows := table()
 	minus := func(n uint64) uint64 { return -n }
